@@ -1,0 +1,1 @@
+"""Seenabout: landmarks seen in their order, from places that nobody knows."""

@@ -16,10 +16,22 @@ CLASSES = {
     ("ratios", "Ratio"): ("number, under=1", {"of": "text", "divided": "self, other"}),
     ("points", "Point"): ("x, y", {"of": "text", "towards": "self, other, share"}),
     ("points", "Line"): ("one, other", {"height": "self, point", "share": "self, point"}),
+    ("charts", "Chart"): ("text", {"line": "self, one, other", "without": "self, name"}),
+    ("lands", "Land"): ("corners", {}),
 }
+SIGNS = {("charts", "Chart"): ("getitem", "len", "contains", "add", "eq"), ("lands", "Land"): ("contains", "eq"),
+         ("points", "Point"): ("add", "sub", "eq"), ("points", "Line"): ("and", "eq")}
+FUNCTIONS = {
+    "sights": {"sides": "chart, point", "about": "chart, point, *, among=None"},
+    "cells": {"cells": "chart", "place_of": "chart, sides", "shows_place_of": "chart, sides, value", "next_to": "chart, cell",
+              "pieces": "chart, some"},
+}
+TEXT = "mark a 0 0\nmark b 4 0\nmark c 0 4"
 ATTRIBUTES = {
     ("ratios", "Ratio"): ((1, 2), ("number", "under", "text")),
     ("points", "Point"): ((1, 2), ("x", "y", "text")),
+    ("charts", "Chart"): ((TEXT,), ("text", "names", "pairs")),
+    ("lands", "Land"): ((((0, 0), (4, 0), (0, 4)),), ("corners", "edges")),
 }
 
 
@@ -49,6 +61,19 @@ class Interface(unittest.TestCase):
             for method, its_parameters in methods.items():
                 self.assertIn(method, vars(kind))
                 self.assertEqual(parameters(getattr(kind, method)), its_parameters)
+
+    def test_signs_are_defined_in_their_classes(self):
+        for (module, name), signs in SIGNS.items():
+            for sign in signs:
+                self.assertIn(f"__{sign}__", vars(found(module, name)))
+
+    def test_functions_stand_in_their_files(self):
+        for module, functions in FUNCTIONS.items():
+            for name, its_parameters in functions.items():
+                function = found(module, name)
+                self.assertTrue(inspect.isfunction(function))
+                self.assertEqual((function.__name__, function.__module__), (name, "seenabout." + module))
+                self.assertEqual(parameters(function), its_parameters)
 
     def test_what_is_to_be_static_is_static(self):
         for module, name in [("ratios", "Ratio"), ("points", "Point")]:

@@ -1,6 +1,5 @@
 """Point 5, and what point 2 says of it."""
 
-import doctest
 import operator
 import unittest
 
@@ -8,14 +7,6 @@ from seenabout.errors import BadNumber, BadPoint, BadText, Off
 from seenabout.points import Line, Point
 from seenabout.ratios import Ratio
 from tests.wrong import Case, is_number, nested, values_of_every_kind
-
-EXAMPLE = """
->>> from seenabout.points import Line, Point
->>> from seenabout.ratios import Ratio
->>> across, way = Line(Point(0, 0), Point(4, 0)), Line(Point(0, 4), Point(1, 1))
->>> [(across & way).text, across.height(Point(1, 1)), across.share(Point(Ratio(4, 3), 0)), Point(0, 4).towards(Point(1, 1), 2).text]
-['4/3 0', Ratio(4), Ratio(1, 3), '2 -2']
-"""
 
 SIGNS = [operator.add, operator.sub, operator.mul, operator.and_, operator.or_,
          operator.lt, operator.le, operator.gt, operator.ge]
@@ -36,15 +27,6 @@ class InPlane(Case):
         self.assertIs(type(point.x), Ratio)
         self.assertIs(type(point.y), Ratio)
         self.assertEqual((point.x.text, point.y.text), (x, y))
-
-
-class Example(unittest.TestCase):
-
-    def test_section_5(self):
-        example = doctest.DocTestParser().get_doctest(EXAMPLE, {}, "section 5", None, 0)
-        told = []
-        results = doctest.DocTestRunner(verbose=False).run(example, out=told.append)
-        self.assertEqual((results.failed, results.attempted), (0, 4), "".join(told))
 
 
 class Points(InPlane):

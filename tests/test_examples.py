@@ -1,0 +1,61 @@
+"""The examples of the document, word for word, each behind those ahead of it; and those of README.md."""
+
+import doctest
+import pathlib
+import unittest
+
+README = pathlib.Path(__file__).resolve().parent.parent / "README.md"
+
+# For each section: how many examples it has, and these.
+SECTIONS = [
+    ("section 5", 4, """
+>>> from seenabout.points import Line, Point
+>>> from seenabout.ratios import Ratio
+>>> across, way = Line(Point(0, 0), Point(4, 0)), Line(Point(0, 4), Point(1, 1))
+>>> [(across & way).text, across.height(Point(1, 1)), across.share(Point(Ratio(4, 3), 0)), Point(0, 4).towards(Point(1, 1), 2).text]
+['4/3 0', Ratio(4), Ratio(1, 3), '2 -2']
+"""),
+    ("section 7", 5, """
+>>> from seenabout.charts import Chart
+>>> from seenabout.sights import about, sides
+>>> chart = Chart('mark a 0 0\\nmark b 4 0\\nmark c 0 4')
+>>> [about(chart, Point(x, y)) for x, y in ((1, 1), (3, 3), (-1, -1), (6, 0))]
+[(('a',), ('b',), ('c',)), (('a',), ('b',), ('c',)), (('a',), ('c',), ('b',)), (('a', 'b'), ('c',))]
+>>> [chart.pairs, sides(chart, Point(1, 1)), sides(chart, Point(2, 0)), sides(chart, Point(6, 0))]
+[(('a', 'b'), ('a', 'c'), ('b', 'c')), (1, -1, 1), (0, -1, 1), (0, -1, -1)]
+"""),
+    ("section 8", 3, """
+>>> from seenabout.cells import cells, next_to, pieces, place_of, shows_place_of
+>>> [len(cells(chart)), next_to(chart, (1, -1, 1)), len(pieces(chart, cells(chart)))]
+[16, ((0, -1, 1), (1, -1, 0), (1, 0, 1)), 1]
+>>> [place_of(chart, (0, 0, 1)), shows_place_of(chart, (-1, 1, -1), ('never', ((0, -1), (1, 1), (2, -1))))]
+[('mark', 'a'), True]
+"""),
+]
+
+
+def run(title, text, names):
+    """How many examples failed, how many there are, what was told of it, and the names that are known behind them."""
+    example = doctest.DocTestParser().get_doctest(text, names, title, None, 0)
+    told = []
+    results = doctest.DocTestRunner(verbose=False).run(example, out=told.append, clear_globs=False)
+    return results.failed, results.attempted, "".join(told), example.globs
+
+
+class Examples(unittest.TestCase):
+
+    def test_word_for_word(self):
+        names = {}
+        for section, many, text in SECTIONS:
+            with self.subTest(section):
+                failed, attempted, told, names = run(section, text, names)
+                self.assertEqual((failed, attempted), (0, many), told)
+
+    def test_readme(self):
+        failed, attempted, told, _ = run("README.md", README.read_text(encoding="utf-8").replace("```", ""), {})
+        self.assertEqual(failed, 0, told)
+        self.assertGreater(attempted, 10)
+
+
+if __name__ == "__main__":
+    unittest.main()

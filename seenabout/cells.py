@@ -146,7 +146,7 @@ def place_of(chart, sides):
 def shows_place_of(chart, sides, value):
     """Whether any value is such a result of place_of."""
     _check_sides(chart, sides)
-    if not isinstance(value, tuple) or len(value) != 2 or not isinstance(value[0], str):
+    if not isinstance(value, tuple) or len(value) != 2:
         return False
     word, told = value
     if word == "place":

@@ -104,10 +104,10 @@ class Chart:
 
     def line(self, one, other):
         """The Line from the mark one to the mark other."""
-        begin = self[one]
-        if other not in self or other == one:
+        begin, end = self[one], self[other]
+        if one == other:
             raise NoMark(other)
-        return Line(begin, self[other])
+        return Line(begin, end)
 
     def without(self, name):
         """The Chart without the line of this mark."""

@@ -20,7 +20,7 @@ def check_place(chart, point):
 
 def places_among(names, some):
     """The numbers at which some of the names stand, or None unless they are a tuple in this sequence."""
-    if not isinstance(some, tuple) or not all([isinstance(name, str) and name in names for name in some]):
+    if not isinstance(some, tuple) or not all([name in names for name in some]):
         return None
     numbers = [names.index(name) for name in some]
     rising = all([one < other for one, other in zip(numbers, numbers[1:])])

@@ -6,7 +6,7 @@ Nothing here uses what the package reckons, but for creating its objects.
 
 import itertools
 from fractions import Fraction
-from functools import cmp_to_key
+from functools import cmp_to_key, lru_cache
 
 from seenabout.charts import Chart
 from seenabout.lands import Land
@@ -26,7 +26,8 @@ HOUSE = {"a": (0, 0), "b": (4, 0), "c": (4, 4), "d": (0, 4), "top": (2, 6)}
 HEXAGON = {"a": (2, 0), "b": (1, 2), "c": (-1, 2), "d": (-2, 0), "e": (-1, -2), "f": (1, -2)}
 SEVEN = {"a": (-40, 3), "b": (17, -30), "c": (25, 44), "d": (-9, -8), "e": (60, 5), "f": (-30, 51), "g": (3, 11)}
 SEVEN_FLAT = {"a": (0, 0), "b": (6, 0), "c": (1, 1), "d": (5, 1), "e": (0, 3), "f": (6, 3), "g": (3, 7)}
-SMALL = [TRIANGLE, TURNED, SLANT, SQUARE, INNER, LONG]
+FAR = {"d": (500, 600), "c": (503, 601), "b": (501, 604), "a": (-700, 990)}
+SMALL = [TRIANGLE, TURNED, SLANT, SQUARE, INNER, LONG, FAR]
 MIDDLE = [FIVE, HOUSE]
 LARGE = [HEXAGON, SEVEN, SEVEN_FLAT]
 
@@ -131,7 +132,12 @@ def places_everywhere(marks):
 
 
 def cells(marks):
-    return sorted({sides(marks, at) for at in places_everywhere(marks)})
+    return list(cells_of(tuple(marks.items())))
+
+
+@lru_cache(maxsize=None)
+def cells_of(items):
+    return sorted({sides(dict(items), at) for at in places_everywhere(dict(items))})
 
 
 def in_land(corners, at):
@@ -214,3 +220,254 @@ def pieces(some):
         near = [part for part in parts if any(touch(cell, other) for other in part)]
         parts = [part for part in parts if part not in near] + [sorted([cell, *itertools.chain(*near)])]
     return tuple(tuple(part) for part in sorted(parts))
+
+
+def left_of(asked, names):
+    """What is left of a round if all other names are left out."""
+    groups = [tuple(name for name in group if name in names) for group in asked]
+    groups = [group for group in groups if group]
+    while names[0] not in groups[0]:
+        groups = groups[1:] + groups[:1]
+    return tuple(groups)
+
+
+@lru_cache(maxsize=None)
+def rounds_of_three(items):
+    """What is seen of three marks, told by name and place, at all places, by the sides there."""
+    marks = dict(items)
+    return {sides(marks, at): about(marks, at) for at in places_everywhere(marks)}
+
+
+class Quest:
+    """What trees have to show: that from no place within these corners this round of these names is seen."""
+
+    def __init__(self, marks, asked, corners=None, among=None):
+        self.marks, self.asked, self.corners = marks, asked, corners
+        self.names = list(marks if among is None else among)
+        self.pairs = pairs(marks)
+        self.edges = [] if corners is None else list(zip(corners, corners[1:] + corners[:1]))
+
+    def is_paper(self, value, taken):
+        if type(value) is not tuple or not all(type(entry) is tuple and len(entry) == 3 for entry in value):
+            return False
+        bars, places, strict = [], [], False
+        for word, number, weight in value:
+            if word not in ("edge", "pair") or type(word) is not str or not is_number(number) or not is_number(weight) or not weight:
+                return False
+            if word == "edge":
+                if not 0 <= number < len(self.edges) or weight < 0:
+                    return False
+                bars.append((*self.edges[number], weight))
+            else:
+                if number not in taken or taken[number] not in (0, sign(weight)):
+                    return False
+                strict = strict or taken[number] != 0
+                bars.append((*lines_of(self.marks)[number], weight))
+            places.append((word, number))
+        total = adds_up(bars)
+        return places == sorted(set(places)) and total is not None and (total < 0 or (total == 0 and strict))
+
+    def is_other(self, value, taken):
+        if type(value) is not tuple or len(value) != 3 or not all(type(name) is str for name in value):
+            return False
+        if list(value) != [name for name in self.names if name in value]:
+            return False
+        numbers = [self.pairs.index(pair) for pair in itertools.combinations(value, 2)]
+        told = tuple(taken.get(number) for number in numbers)
+        seen = rounds_of_three(tuple((name, self.marks[name]) for name in value))
+        return told in seen and seen[told] != left_of(self.asked, value)
+
+    def is_leaf(self, word, value, taken):
+        if word == "barred":
+            return self.is_paper(value, taken)
+        if word == "mark":
+            on = [number for number, side in taken.items() if side == 0 and value in self.pairs[number]]
+            return type(value) is str and len(on) > 1
+        return word == "other" and self.is_other(value, taken)
+
+    def is_tree(self, value, taken):
+        if type(value) is not tuple or not value or type(value[0]) is not str:
+            return False
+        if value[0] != "split":
+            return len(value) == 2 and self.is_leaf(*value, taken)
+        if len(value) != 5 or not is_number(value[1]) or not 0 <= value[1] < len(self.pairs) or value[1] in taken:
+            return False
+        return all(self.is_tree(branch, {**taken, value[1]: side}) for branch, side in zip(value[2:], (1, 0, -1)))
+
+    def is_seen_from(self, value):
+        """Whether a value is right as a result of seen_from."""
+        if type(value) is not tuple or len(value) != 2 or type(value[0]) is not str:
+            return False
+        if value[0] == "never":
+            return self.is_tree(value[1], {})
+        if value[0] != "place" or type(value[1]) is not Point:
+            return False
+        at = place(value[1])
+        return at not in self.marks.values() and in_land(self.corners, at) and about(self.marks, at, self.names) == self.asked
+
+    def leaf_for(self, tree, cell):
+        """The leaf to which these sides lead."""
+        while tree[0] == "split":
+            tree = tree[{1: 2, 0: 3, -1: 4}[cell[tree[1]]]]
+        return tree
+
+    def grow(self, order, taken=None):
+        """A tree that splits by the pairs in this sequence, whatever they are good for."""
+        taken = {} if taken is None else taken
+        for leaf in self.leaves(taken):
+            if self.is_leaf(*leaf, taken):
+                return leaf
+        number = [number for number in order if number not in taken][0]
+        return ("split", number, *[self.grow(order, {**taken, number: side}) for side in (1, 0, -1)])
+
+    def leaves(self, taken):
+        """Leaves that may end a tree with these sides taken."""
+        yield from [("mark", name) for name in self.marks]
+        yield from [("other", names) for names in itertools.combinations(self.names, 3)]
+        bars = [("edge", number, *edge) for number, edge in enumerate(self.edges)]
+        bars += [("pair", number, *lines_of(self.marks)[number]) for number in sorted(taken)]
+        for some in [*itertools.combinations(bars, 2), *itertools.combinations(bars, 3)]:
+            for weights in even_weights([(one, other) for _, _, one, other in some]):
+                entries = [(word, number, weight) for (word, number, *_), weight in zip(some, weights) if weight]
+                yield "barred", tuple(entries)
+
+
+def even_weights(ways):
+    """Weights with which the heights above two or three ways add up to one number."""
+    first, second, *rest = [(other[0] - one[0], other[1] - one[1]) for one, other in ways]
+    if rest:
+        weights = height((0, 0), second, rest[0]), -height((0, 0), first, rest[0]), height((0, 0), first, second)
+    elif height((0, 0), first, second) == 0:
+        weights = first[0] * second[0] + first[1] * second[1], -first[0] ** 2 - first[1] ** 2
+    else:
+        return []
+    return [weights, tuple(-weight for weight in weights)]
+
+
+def on_way(start, goal, at):
+    """The share of the straight way from start to goal at which a place lies, or None if it is not on its line."""
+    if height(start, goal, at) != 0:
+        return None
+    axis = 0 if start[0] != goal[0] else 1
+    return Fraction(at[axis] - start[axis]) / (goal[axis] - start[axis])
+
+
+def marks_on_way(marks, start, goal):
+    """The names of the marks that are met between start and goal, in sequence."""
+    shares = {name: on_way(start, goal, at) for name, at in marks.items()}
+    return sorted((name for name, share in shares.items() if share is not None and 0 < share < 1), key=shares.get)
+
+
+def crossed(marks, start, goal):
+    """What crossed tells, with moments as Fractions."""
+    found = {}
+    for number, line in enumerate(lines_of(marks)):
+        at = crossing(line, (start, goal))
+        moment = None if at is None else on_way(start, goal, at)
+        if moment is not None and 0 <= moment <= 1:
+            found.setdefault(moment, []).append(number)
+    return [(moment, tuple(found[moment])) for moment in sorted(found)]
+
+
+def seen_on(marks, start, goal):
+    """The rounds on a way: at each line, between any two, and at both ends."""
+    moments = [Fraction(0), *[moment for moment, _ in crossed(marks, start, goal)], Fraction(1)]
+    stops = sorted({*moments, *[(one + other) / 2 for one, other in zip(moments, moments[1:])]})
+    seen = [about(marks, between(start, goal, stop)) for stop in stops]
+    return tuple(told for told, ahead in zip(seen, [None, *seen]) if told != ahead)
+
+
+def exchanges_on(marks, start, goal):
+    """How often one of a pair is exchanged with the other on a straight way: lines crossed beyond both marks."""
+    many = 0
+    for one, other in lines_of(marks):
+        at = crossing((one, other), (start, goal))
+        if at is not None and 0 < on_way(start, goal, at) < 1:
+            many += not 0 < on_way(one, other, at) < 1
+    return many
+
+
+@lru_cache(maxsize=None)
+def gates(items):
+    """For each cell with just one side 0 the two cells beside it, and the exchanges between these."""
+    marks, found = dict(items), {}
+    for at in places_everywhere(marks):
+        cell = sides(marks, at)
+        if cell.count(0) == 1:
+            number = cell.index(0)
+            beyond = not 0 < on_way(*lines_of(marks)[number], at) < 1
+            one, other = [cell[:number] + (side,) + cell[number + 1:] for side in (1, -1)]
+            found[cell] = one, other, int(beyond)
+    return list(found.values())
+
+
+def fewest(marks, start):
+    """For each cell without side 0 the fewest exchanges from start, by trying until nothing gets better."""
+    found, some = {sides(marks, start): 0}, gates(tuple(marks.items()))
+    while True:
+        better = {}
+        for one, other, many in [*some, *[(other, one, many) for one, other, many in some]]:
+            if one in found and found[one] + many < min(found.get(other, 10 ** 6), better.get(other, 10 ** 6)):
+                better[other] = found[one] + many
+        if not better:
+            return found
+        found.update(better)
+
+
+def is_way(marks, start, goal, value):
+    """Whether a value is a way as section 11 tells it, with whatever number of exchanges."""
+    if type(value) is not tuple or not value or not all(type(stop) is Point for stop in value):
+        return False
+    stops = [place(stop) for stop in value]
+    if stops[0] != start or stops[-1] != goal or (start == goal and len(stops) > 1):
+        return False
+    if any(one == other for one, other in zip(stops, stops[1:])) or any(0 in sides(marks, stop) for stop in stops):
+        return False
+    return not any(marks_on_way(marks, one, other) for one, other in zip(stops, stops[1:]))
+
+
+def is_fewest(marks, start, goal, value):
+    """Whether a value is right as a result of fewest."""
+    if type(value) is not tuple or len(value) != 3 or not is_number(value[0]) or not is_way(marks, start, goal, value[1]):
+        return False
+    number, stops, faces = value[0], [place(stop) for stop in value[1]], [cell for cell in cells(marks) if 0 not in cell]
+    if sum(exchanges_on(marks, one, other) for one, other in zip(stops, stops[1:])) != number:
+        return False
+    if type(value[2]) is not tuple or len(value[2]) != len(faces) or not all(is_number(level) for level in value[2]):
+        return False
+    levels = dict(zip(faces, value[2]))
+    if levels[sides(marks, start)] != 0 or levels[sides(marks, goal)] != number:
+        return False
+    return all(abs(levels[one] - levels[other]) <= many for one, other, many in gates(tuple(marks.items())))
+
+
+@lru_cache(maxsize=None)
+def seen_by_cell(items):
+    """For each cell the round that is seen from there."""
+    marks = dict(items)
+    return {sides(marks, at): about(marks, at) for at in places_everywhere(marks)}
+
+
+@lru_cache(maxsize=None)
+def touching(items):
+    """For each cell those that touch it."""
+    some = cells(dict(items))
+    return {cell: [other for other in some if touch(cell, other)] for cell in some}
+
+
+def on_logs(marks, log):
+    """(begun, now): the cells of all ways with a log, found step by step as (cell, how many rounds are written)."""
+    items = tuple(marks.items())
+    seen, near = seen_by_cell(items), touching(items)
+
+    def follow(log):
+        waiting = [(cell, 0) for cell in seen if seen[cell] == log[0]]
+        found = set(waiting)
+        while waiting:
+            cell, at = waiting.pop()
+            steps = [(other, then) for other in near[cell] for then in (at, at + 1) if log[then:then + 1] == (seen[other],)]
+            waiting.extend(state for state in steps if state not in found)
+            found.update(steps)
+        return tuple(sorted(cell for cell, at in found if at == len(log) - 1))
+
+    return follow(log[::-1]), follow(log)

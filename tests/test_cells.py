@@ -4,7 +4,7 @@ import itertools
 import random
 import unittest
 
-from seenabout.cells import cells, next_to, pieces, place_of, shows_place_of
+from seenabout.cells import cells, next_to, pieces, place_of, shows_no_point, shows_place_of, weights_with
 from seenabout.errors import BadCells, BadSides, NoCell
 from seenabout.points import Point
 from seenabout.ratios import Ratio
@@ -153,6 +153,15 @@ class Places(Case):
         self.assertIs(shows_place_of(square, (0, -1, -1, 1, 1, 0), ("never", ((0, 3), (5, 3)))), False)
         self.assertIs(shows_place_of(square, (-1, -1, -1, 1, 1, -1), ("never", ((0, -3), (5, -2)))), False)
 
+    def test_two_lines_side_by_side_are_enough(self):
+        # Of y, and y - 4 turned over, the sum is -4; of other lines nothing is known.
+        for line, other, weights in [((0, 1, 0), (0, -1, -4), {0: 1, 1: 1}), ((0, 1, 0), (0, 3, 12), None), ((0, 2, 0), (0, -3, -12), {0: 3, 1: 2}),
+                                     ((3, 6, 1), (-2, -4, -7), {0: 2, 1: 3}), ((0, 1, 0), (1, 1, 0), None)]:
+            bars = [(line, 1, True), (other, 1, True)]
+            self.assertEqual(weights_with(bars, 0, [1]), weights)
+            self.assertEqual(weights_with(bars, 1, [0]), weights)
+            self.assertIs(shows_no_point([(bars[0], 3), (bars[1], 2)]), weights == {0: 3, 1: 2})
+
     def test_three_lines_through_one_point(self):
         # In the hexagon ad, be and cf cross in one point: whoever is on two of them is on the third one.
         hexagon = plain.chart_of(plain.HEXAGON)
@@ -196,6 +205,22 @@ class Shown(Case):
             {0: -1, 1: 1, 2: -1}, None, ((0, -1), None, (2, -1)), ((0, -1), (1, 1), (1, 1), (2, -1)), ((0, "-1"), (1, 1), (2, -1)),
         ]:
             self.assertIs(shows_place_of(TRIANGLE, NEVER, ("never", paper)), False, paper)
+
+    def test_no_weight_is_0(self):
+        for marks in [plain.SQUARE, plain.FIVE]:
+            chart = plain.chart_of(marks)
+            for asked in sides_everywhere(marks, 9):
+                word, paper = place_of(chart, asked)
+                for number in range(len(asked)) if word == "never" else []:
+                    if number not in dict(paper):
+                        more = tuple(sorted((*paper, (number, 0))))
+                        self.assertIs(shows_place_of(chart, asked, ("never", more)), False)
+
+    def test_a_sum_that_is_just_above_or_below_0(self):
+        # The heights are y, -x and 1 - x - y.
+        unit = plain.chart_of({"a": (0, 0), "b": (1, 0), "c": (0, 1)})
+        self.assertIs(shows_place_of(unit, (1, -1, 1), ("never", ((0, 1), (1, -1), (2, 1)))), False)
+        self.assertIs(shows_place_of(unit, (-1, 1, -1), ("never", ((0, -1), (1, 1), (2, -1)))), True)
 
     def test_a_paper_for_other_sides(self):
         for asked in sides_everywhere(plain.TRIANGLE):

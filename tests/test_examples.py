@@ -31,6 +31,30 @@ SECTIONS = [
 >>> [place_of(chart, (0, 0, 1)), shows_place_of(chart, (-1, 1, -1), ('never', ((0, -1), (1, 1), (2, -1))))]
 [('mark', 'a'), True]
 """),
+    ("section 10", 8, """
+>>> from seenabout.lands import Land
+>>> from seenabout.seeing import rounds, seen_from, shows_seen_from, where
+>>> turned, patch = (('a',), ('c',), ('b',)), Land(((1, 1), (5, 1), (1, 5)))
+>>> [len(rounds(chart)), rounds(chart, land=patch), len(where(chart, turned)), len(pieces(chart, where(chart, turned)))]
+[5, ((('a',), ('b',), ('c',)),), 3, 3]
+>>> [seen_from(chart, turned)[0], seen_from(chart, turned, land=patch)[0], seen_from(chart, (('a', 'b', 'c'),))[0]]
+['place', 'never', 'never']
+>>> never = ('barred', (('edge', 0, 1), ('pair', 0, -1)))
+>>> tree = ('split', 0, ('split', 1, ('barred', (('edge', 2, 1), ('pair', 1, 1))), ('mark', 'a'), ('mark', 'a')), never, never)
+>>> shows_seen_from(chart, turned, ('never', tree), land=patch)
+False
+"""),
+    ("section 11", 2, """
+>>> from seenabout.ways import crossed, fewest, seen_on
+>>> [len(seen_on(chart, Point(1, 1), Point(-1, -2))), crossed(chart, Point(1, 1), Point(-1, -2)), fewest(chart, Point(1, 1), Point(-1, -2))[0]]
+[3, ((Ratio(1, 3), (0,)), (Ratio(1, 2), (1,))), 1]
+"""),
+    ("section 12", 3, """
+>>> from seenabout.logs import began, coming, known, now
+>>> plain, corner = (('a',), ('b',), ('c',)), (('a', 'c'), ('b',))
+>>> [len(began(chart, (plain, corner, turned))), now(chart, (plain, corner, turned)), known(chart, (corner,)), len(coming(chart, (turned,)))]
+[7, ((-1, 1, 1), (1, 1, -1)), (None, 0, None), 3]
+"""),
 ]
 
 

@@ -25,6 +25,11 @@ FUNCTIONS = {
     "sights": {"sides": "chart, point", "about": "chart, point, *, among=None"},
     "cells": {"cells": "chart", "place_of": "chart, sides", "shows_place_of": "chart, sides, value", "next_to": "chart, cell",
               "pieces": "chart, some"},
+    "seeing": {"rounds": "chart, *, land=None, among=None", "seen_from": "chart, asked, *, land=None, among=None",
+               "shows_seen_from": "chart, asked, value, *, land=None, among=None", "where": "chart, asked, *, among=None"},
+    "ways": {"crossed": "chart, start, goal", "seen_on": "chart, start, goal", "fewest": "chart, start, goal",
+             "shows_fewest": "chart, start, goal, value"},
+    "logs": {"began": "chart, log", "now": "chart, log", "coming": "chart, log", "known": "chart, log"},
 }
 TEXT = "mark a 0 0\nmark b 4 0\nmark c 0 4"
 ATTRIBUTES = {

@@ -6,8 +6,12 @@ from fractions import Fraction
 
 from seenabout.cells import cells, next_to, pieces, place_of, shows_place_of
 from seenabout.lands import Land
+from seenabout.logs import began, coming, known, now
+from seenabout.seeing import rounds, seen_from, shows_seen_from, where
 from seenabout.sights import about, sides
+from seenabout.ways import crossed, fewest, seen_on, shows_fewest
 from tests import plain
+from tests.test_ways import ways_of
 
 CHARTS = [plain.TRIANGLE, plain.SLANT, plain.SQUARE, plain.INNER, plain.HOUSE, plain.SEVEN]
 LANDS = [((-3, -2), (7, -4), (9, 5), (0, 8)), ((1, 1), (5, 1), (1, 5)), ((-20, 0), (4, -1), (30, 20))]
@@ -65,6 +69,37 @@ class MovedAndStretched(unittest.TestCase):
                 self.assertIs(shows_place_of(other, cell, ("place", moved)), True)
             self.assertEqual(pieces(chart, cells(chart)[::3]), pieces(other, cells(chart)[::3]))
 
+    def test_rounds(self):
+        for marks, kind, chart, other in self.all_kinds():
+            among = chart.names[-3:]
+            self.assertEqual(rounds(chart), rounds(other))
+            for corners in LANDS:
+                land, moved = Land(corners), Land(tuple(kind(*corner) for corner in corners))
+                self.assertEqual(rounds(chart, land=land), rounds(other, land=moved))
+                self.assertEqual(rounds(chart, land=land, among=among), rounds(other, land=moved, among=among))
+                for asked in rounds(chart)[::9]:
+                    self.assertEqual(where(chart, asked), where(other, asked))
+                    told = seen_from(chart, asked, land=land)
+                    self.assertEqual(told[0], seen_from(other, asked, land=moved)[0])
+                    if told[0] == "place":
+                        at = kind(*plain.place(told[1]))
+                        self.assertIs(shows_seen_from(other, asked, ("place", plain.point(at)), land=moved), True)
+
+    def test_ways_and_logs(self):
+        for marks, kind, chart, other in self.all_kinds():
+            for ends in ways_of(marks, 12):
+                here, there = [plain.point(at) for at in ends], [plain.point(kind(*at)) for at in ends]
+                self.assertEqual(crossed(chart, *here), crossed(other, *there))
+                log = seen_on(chart, *here)
+                self.assertEqual(log, seen_on(other, *there))
+                for call in [began, now, coming, known]:
+                    self.assertEqual(call(chart, log[:20]), call(other, log[:20]))
+                if 0 not in sides(chart, here[0]) + sides(chart, here[1]):
+                    number, way, levels = fewest(chart, *here)
+                    moved = tuple(plain.point(kind(*plain.place(stop))) for stop in way)
+                    self.assertEqual(fewest(other, *there)[0], number)
+                    self.assertIs(shows_fewest(other, *there, (number, moved, levels)), True)
+
     def test_lands(self):
         for corners, kind in itertools.product(LANDS, KINDS.values()):
             land, moved = Land(corners), Land(tuple(kind(*corner) for corner in corners))
@@ -91,6 +126,31 @@ class TurnedOver(unittest.TestCase):
                 self.assertEqual(next_to(other, other_signs(cell)), tuple(wanted))
 
 
+    def test_rounds(self):
+        for marks in CHARTS:
+            chart, other = plain.chart_of(marks), plain.chart_of(turned_over(marks))
+            for corners in [None, *LANDS]:
+                land = plain.land_of(corners)
+                over = plain.land_of(corners and tuple((y, x) for x, y in corners[::-1]))
+                self.assertEqual(rounds(other, land=over), tuple(sorted(other_way_about(seen) for seen in rounds(chart, land=land))))
+            for asked in rounds(chart)[::7]:
+                wanted = sorted(other_signs(cell) for cell in where(chart, asked))
+                self.assertEqual(where(other, other_way_about(asked)), tuple(wanted))
+
+    def test_ways_and_logs(self):
+        for marks in CHARTS:
+            chart, other = plain.chart_of(marks), plain.chart_of(turned_over(marks))
+            for ends in ways_of(marks, 12):
+                here, there = [plain.point(at) for at in ends], [plain.point(at[::-1]) for at in ends]
+                self.assertEqual(crossed(chart, *here), crossed(other, *there))
+                log = seen_on(chart, *here)
+                over = tuple(other_way_about(seen) for seen in log)
+                self.assertEqual(seen_on(other, *there), over)
+                self.assertEqual(now(other, over[:20]), tuple(sorted(other_signs(cell) for cell in now(chart, log[:20]))))
+                if 0 not in sides(chart, here[0]) + sides(chart, here[1]):
+                    self.assertEqual(fewest(other, *there)[0], fewest(chart, *here)[0])
+
+
 class FewerMarks(unittest.TestCase):
 
     def test_rounds_of_more_marks_tell_those_of_fewer(self):
@@ -100,6 +160,18 @@ class FewerMarks(unittest.TestCase):
                 here = plain.point(at)
                 rows = [about(chart, here), about(chart, here, among=chart.names[:3]), about(chart, here, among=chart.names[1:])]
                 self.assertEqual(told.setdefault(rows[0], rows), rows)
+
+    def test_what_is_seen_from_somewhere(self):
+        for marks in [plain.INNER, plain.HOUSE, plain.SEVEN]:
+            chart, names = plain.chart_of(marks), tuple(marks)
+            for corners in [None, *LANDS]:
+                land = plain.land_of(corners)
+                for among in [names[:3], names[1:]]:
+                    left = {plain.left_of(seen, among) for seen in rounds(chart, land=land)}
+                    self.assertEqual(set(rounds(chart, land=land, among=among)), left)
+            for asked in rounds(chart)[::9]:
+                fewer = where(chart, plain.left_of(asked, names[:3]), among=names[:3])
+                self.assertTrue(set(where(chart, asked)) <= set(fewer))
 
     def test_a_chart_without_a_mark(self):
         for marks in [plain.INNER, plain.HOUSE, plain.SEVEN]:

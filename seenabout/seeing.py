@@ -75,7 +75,7 @@ def _sides_of_three(chart, three):
     return found
 
 
-class _Three:
+class Three:
     """Three marks of among, and for the sides of their pairs whether the round asked can be seen there.
 
     fits has the sides, at most one of them 0, that there are at places.
@@ -103,13 +103,13 @@ class _Three:
         return self.fits.get(told) is False
 
 
-class _Quest:
+class Quest:
     """Whether a round is seen from a place of the land with these borders."""
 
     def __init__(self, chart, asked, borders, chosen):
         self.chart = chart
         self.borders = borders
-        self.threes = [_Three(chart, asked, (one, other, third)) for one in chosen
+        self.threes = [Three(chart, asked, (one, other, third)) for one in chosen
                        for other in chosen if one < other for third in chosen if other < third]
 
 
@@ -178,7 +178,7 @@ def _tree(quest, taken, newest, alive):
 
 def _never(chart, asked, land, chosen, numbers):
     """A tree that shows that a round is seen from none of the cells with these numbers, all that the land has."""
-    quest = _Quest(chart, asked, borders_of(land), chosen)
+    quest = Quest(chart, asked, borders_of(land), chosen)
     inside = [spot for spot in chart.spots if all([high >= 0 for high in heights_at(quest.borders, spot)])]
     some = [chart.plane.cells[number] for number in numbers]
     some.extend([sides_at(chart.plane.lines, spot) for spot in inside])
@@ -254,7 +254,7 @@ def shows_seen_from(chart, asked, value, *, land=None, among=None):
         return False
     word, told = value
     if word == "never":
-        return _is_tree(_Quest(chart, asked, borders_of(land), chosen), told, {})
+        return _is_tree(Quest(chart, asked, borders_of(land), chosen), told, {})
     if word != "place" or not isinstance(told, Point) or mark_at(chart, told) is not None:
         return False
     return (land is None or told in land) and about(chart, told, among=among) == asked

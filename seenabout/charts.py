@@ -139,3 +139,17 @@ class Chart:
 
     def __eq__(self, other):
         return isinstance(other, Chart) and self.text == other.text
+
+
+def pair_number(chart, one, other):
+    """The number of the pair of two marks, in whichever sequence."""
+    begin, end = chart.names.index(one), chart.names.index(other)
+    return chart.pair_at[(begin, end) if begin < end else (end, begin)]
+
+
+def spots_of_pair(chart, number):
+    """The spots of both marks of a pair."""
+    one, other = list(chart.pair_at)[number]
+    _, x, y = chart.marks[one]
+    _, to_x, to_y = chart.marks[other]
+    return (x, y, 1), (to_x, to_y, 1)

@@ -30,10 +30,25 @@ def point_of(spot):
     return Point(Ratio(x, w), Ratio(y, w))
 
 
+def height_at(line, spot):
+    """The height above a line, times the w of the spot."""
+    return line[0] * spot[0] + line[1] * spot[1] + line[2] * spot[2]
+
+
 def heights_at(lines, spot):
     """The heights above the lines, times the w of the spot."""
     x, y, w = spot
     return [a * x + b * y + c * w for a, b, c in lines]
+
+
+def opposite(line):
+    """The line above which all heights have the other sign."""
+    return tuple([-number for number in line])
+
+
+def minus(one, other):
+    """The line above which all heights are those above one less those above other."""
+    return tuple([a - b for a, b in zip(one, other)])
 
 
 def sides_at(lines, spot):
@@ -70,7 +85,7 @@ def crossing(one, other):
     return x // common, y // common, w // common
 
 
-def _added(spots):
+def added(spots):
     """A spot between all of these; directions (x, y, 0) among them lead on."""
     return tuple([sum([spot[k] for spot in spots]) for k in range(3)])
 
@@ -158,10 +173,10 @@ class Parts:
         for edge in ends:
             spots = [points[point] for point in ends[edge]]
             # An edge with one end goes on for ever.
-            edges[edge] = _added(spots if len(spots) == 2 else spots + [away[edge]])
+            edges[edge] = added(spots if len(spots) == 2 else spots + [away[edge]])
             for face in flanks[edge]:
                 around[face] = around.get(face, []) + [edges[edge]]
-        faces = {face: _added(around[face]) for face in around}
+        faces = {face: added(around[face]) for face in around}
         self.spots = {**points, **edges, **faces}
         self.ends = ends
         self.flanks = flanks

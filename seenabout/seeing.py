@@ -50,7 +50,7 @@ def where(chart, asked, *, among=None):
     return tuple([cell for cell in chart.plane.cells if round_from(chart, cell, chosen) == asked])
 
 
-def _left_of(asked, names):
+def left_of(asked, names):
     """What is left of a round if all names but these are left out."""
     groups = [tuple([name for name in group if name in names]) for group in asked]
     groups = [group for group in groups if group]
@@ -85,7 +85,7 @@ class Three:
         one, other, third = three
         numbers = [chart.pair_at[one, other], chart.pair_at[one, third], chart.pair_at[other, third]]
         names = tuple([chart.names[mark] for mark in three])
-        wanted = _left_of(asked, names)
+        wanted = left_of(asked, names)
         self.names = names
         self.pair_numbers = numbers
         self.fits = {}

@@ -471,3 +471,77 @@ def on_logs(marks, log):
         return tuple(sorted(cell for cell, at in found if at == len(log) - 1))
 
     return follow(log[::-1]), follow(log)
+
+
+def is_on_piece(marks, step, at):
+    """Whether a place is on the piece of a step."""
+    one, other = marks[step[3]], marks[step[4]]
+    share = on_way(one, other, at)
+    return share is not None and (not 0 < share < 1 if step[2] == "until" else 0 <= share <= 1)
+
+
+def step_end(marks, step, at):
+    """The place at which a step ends, or "at" or "ever"."""
+    goal = marks[step[1]]
+    if is_on_piece(marks, step, at):
+        return at
+    if at == goal:
+        return "at"
+    ahead = goal if step[0] == "towards" else (2 * at[0] - goal[0], 2 * at[1] - goal[1])
+    one, other = marks[step[3]], marks[step[4]]
+    cross = crossing((at, ahead), (one, other))
+    ends = [end for end in ([one, other] if cross is None else [cross]) if is_on_piece(marks, step, end)]
+    shares = [on_way(at, ahead, end) for end in ends]
+    shares = [share for share in shares if share is not None and share > 0 and (share <= 1 or step[0] == "from")]
+    if not shares:
+        return "at" if step[0] == "towards" else "ever"
+    return between(at, ahead, min(shares))
+
+
+def walked(marks, steps, at):
+    """What walked tells, with places: (word, line, places)."""
+    line, places = 0, [at]
+    while line < len(steps):
+        step = steps[line]
+        line += 1
+        if step[0] == "skip":
+            line += step[1] if height(marks[step[3]], marks[step[4]], places[-1]) > 0 else 0
+            continue
+        end = step_end(marks, step, places[-1])
+        if end in ("at", "ever"):
+            return end, line, tuple(places)
+        places.append(end)
+    return "done", 0, tuple(places)
+
+
+@lru_cache(maxsize=None)
+def seen_within(items, corners):
+    """For each cell as far as it lies in a land, or in the whole plane: (sides, the round that is seen from there)."""
+    marks = dict(items)
+    some = places_everywhere(marks) if corners is None else places_within(marks, corners)
+    places = {sides(marks, at): at for at in some}
+    return [(cell, about(marks, at)) for cell, at in places.items()]
+
+
+def settles(marks, ask, corners=None, among=None):
+    """Whether from no two places of the land with unlike answers the same round is seen."""
+    number = [set(pair) for pair in pairs(marks)].index(set(ask))
+    answers = {}
+    for cell, seen in seen_within(tuple(marks.items()), corners):
+        told = seen if among is None else left_of(seen, among)
+        if answers.setdefault(told, cell[number]) != cell[number]:
+            return False
+    return True
+
+
+def is_mixed(marks, ask, value, corners=None, among=None):
+    """Whether a value is right as a result of mixed."""
+    if value is None:
+        return settles(marks, ask, corners, among)
+    if type(value) is not tuple or len(value) != 2 or not all(type(told) is Point for told in value):
+        return False
+    places, (one, other) = [place(told) for told in value], [marks[name] for name in ask]
+    if any(at in marks.values() or not in_land(corners, at) for at in places):
+        return False
+    answers = [sign(height(one, other, at)) for at in places]
+    return answers[0] != answers[1] and about(marks, places[0], among) == about(marks, places[1], among)

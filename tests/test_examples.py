@@ -55,6 +55,28 @@ False
 >>> [len(began(chart, (plain, corner, turned))), now(chart, (plain, corner, turned)), known(chart, (corner,)), len(coming(chart, (turned,)))]
 [7, ((-1, 1, 1), (1, 1, -1)), (None, 0, None), 3]
 """),
+    ("section 13", 5, """
+>>> from seenabout.scripts import ends, failing, leads, Script, walked
+>>> to, away = Script('towards c until a b'), Script('from c between a b')
+>>> [walked(chart, to, Point(1, 1))[:2], walked(chart, away, Point(1, 1))[2][1].text]
+[('at', 1), '4/3 0']
+>>> small = Land(((1, 1), (2, 1), (1, 2)))
+>>> [leads(chart, away, small), failing(chart, to, small), ends(chart, Script('from c until a b'), small)]
+[('sure', (('a', 'b', (Ratio(1, 3), True), (Ratio(2, 3), True)),)), ((1, 'at'),), ()]
+"""),
+    ("section 14", 4, """
+>>> from seenabout.laps import Lap
+>>> five = chart + 'mark d 6 6' + 'mark e 1 -3'
+>>> lap = Lap(five, Script('towards d between a c\\ntowards e between a b'))
+>>> [lap.table, lap.starts(), lap.starts(2), lap.turns, lap.fixed, lap.led(-1)]
+[(1, 0, 6, -3), (((Ratio(-3), True), (Ratio(0), True)),), (((Ratio(0), True), (Ratio(0), True)),), None, (3, -2, 0), ('done', Ratio(1, 9))]
+"""),
+    ("section 15", 3, """
+>>> from seenabout.comparing import apart
+>>> from seenabout.looks import fewest_marks, mixed
+>>> [mixed(chart, ('a', 'b'), land=patch), fewest_marks(chart, ('a', 'b'))[0], len(apart(chart, Chart('mark a 0 0\\nmark b 0 4\\nmark c 4 0'))[0])]
+[None, 'none', 0]
+"""),
 ]
 
 

@@ -1,15 +1,23 @@
 """The interface, and what the language of the package allows: names, sizes, characters, imports."""
 
 import ast
+import builtins
 import importlib
 import inspect
 import pathlib
 import unittest
 
+from seenabout.charts import Chart
+from seenabout.scripts import Script
+
 PACKAGE = pathlib.Path(__file__).resolve().parent.parent / "seenabout"
 LIBRARY = {"math": ("gcd", "lcm", "isqrt", "comb", "perm", "factorial"),
            "heapq": ("heappush", "heappop", "heapify", "heapreplace", "heappushpop"),
            "itertools": ("product", "combinations", "permutations")}
+
+# Names of Python that no function or method of the package has.
+LISTED = ("len", "range", "enumerate", "zip", "min", "max", "sum", "abs", "sorted", "reversed", "int", "str", "bool", "bytes", "list", "tuple",
+          "dict", "set", "frozenset", "isinstance", "ord", "chr", "repr", "any", "all", "divmod", "open", "input", "register", "mro", "elements", "law")
 
 # For each class: the parameters of its creation, and of its methods.
 CLASSES = {
@@ -18,9 +26,11 @@ CLASSES = {
     ("points", "Line"): ("one, other", {"height": "self, point", "share": "self, point"}),
     ("charts", "Chart"): ("text", {"line": "self, one, other", "without": "self, name"}),
     ("lands", "Land"): ("corners", {}),
+    ("scripts", "Script"): ("text", {}),
+    ("laps", "Lap"): ("chart, script", {"led": "self, share, many=1", "starts": "self, many=1"}),
 }
 SIGNS = {("charts", "Chart"): ("getitem", "len", "contains", "add", "eq"), ("lands", "Land"): ("contains", "eq"),
-         ("points", "Point"): ("add", "sub", "eq"), ("points", "Line"): ("and", "eq")}
+         ("points", "Point"): ("add", "sub", "eq"), ("points", "Line"): ("and", "eq"), ("scripts", "Script"): ("len", "eq")}
 FUNCTIONS = {
     "sights": {"sides": "chart, point", "about": "chart, point, *, among=None"},
     "cells": {"cells": "chart", "place_of": "chart, sides", "shows_place_of": "chart, sides, value", "next_to": "chart, cell",
@@ -29,14 +39,22 @@ FUNCTIONS = {
                "shows_seen_from": "chart, asked, value, *, land=None, among=None", "where": "chart, asked, *, among=None"},
     "ways": {"crossed": "chart, start, goal", "seen_on": "chart, start, goal", "fewest": "chart, start, goal",
              "shows_fewest": "chart, start, goal, value"},
+    "scripts": {"walked": "chart, script, point", "ends": "chart, script, land", "failing": "chart, script, land",
+                "leads": "chart, script, land", "shows_leads": "chart, script, land, value"},
+    "looks": {"mixed": "chart, ask, *, land=None, among=None", "shows_mixed": "chart, ask, value, *, land=None, among=None",
+              "fewest_marks": "chart, ask, *, land=None"},
+    "comparing": {"apart": "one, other, *, land=None"},
     "logs": {"began": "chart, log", "now": "chart, log", "coming": "chart, log", "known": "chart, log"},
 }
 TEXT = "mark a 0 0\nmark b 4 0\nmark c 0 4"
+DIRECTIONS = "towards d between a c\ntowards e between a b"
 ATTRIBUTES = {
     ("ratios", "Ratio"): ((1, 2), ("number", "under", "text")),
     ("points", "Point"): ((1, 2), ("x", "y", "text")),
     ("charts", "Chart"): ((TEXT,), ("text", "names", "pairs")),
     ("lands", "Land"): ((((0, 0), (4, 0), (0, 4)),), ("corners", "edges")),
+    ("scripts", "Script"): ((DIRECTIONS,), ("text", "steps")),
+    ("laps", "Lap"): ((Chart(TEXT + "\nmark d 6 6\nmark e 1 -3"), Script(DIRECTIONS)), ("pair", "table", "turns", "fixed")),
 }
 
 
@@ -50,6 +68,12 @@ def parameters(function):
 
 def sources():
     return {path.name: path.read_text(encoding="utf-8") for path in sorted(PACKAGE.glob("*.py"))}
+
+
+def bound_in(tree):
+    """The functions, classes and values that a file defines, by name."""
+    found = [node.name for node in tree.body if isinstance(node, (ast.FunctionDef, ast.ClassDef))]
+    return found + [target.id for node in tree.body if isinstance(node, ast.Assign) for target in node.targets]
 
 
 def nodes(source, *kinds):
@@ -119,11 +143,83 @@ class Language(unittest.TestCase):
             for node in nodes(source, ast.ImportFrom):
                 self.assertEqual(node.level, 0)
                 for imported in node.names:
+                    self.assertIsNone(imported.asname)
                     if node.module in LIBRARY:
                         self.assertIn(imported.name, LIBRARY[node.module])
                     else:
-                        self.assertEqual(getattr(found(node.module.removeprefix("seenabout."), imported.name),
-                                                 "__module__"), node.module)
+                        own = sources()[node.module.removeprefix("seenabout.") + ".py"]
+                        self.assertIn(imported.name, bound_in(ast.parse(own)))
+
+    def test_no_two_files_import_from_each_other(self):
+        ahead = {}
+        for name, source in sources().items():
+            ahead[name.removesuffix(".py")] = [node.module.removeprefix("seenabout.") for node in nodes(source, ast.ImportFrom)
+                                               if node.module not in LIBRARY]
+        done = []
+        while len(done) < len(ahead):
+            ready = [name for name in ahead if name not in done and all(other in done for other in ahead[name])]
+            self.assertNotEqual(ready, [], "files import from each other")
+            done.extend(ready)
+
+    def test_all_that_is_imported_and_defined_is_used(self):
+        public = {name for functions in FUNCTIONS.values() for name in functions} | {name for _, name in CLASSES}
+        everywhere = [word.id for source in sources().values() for word in nodes(source, ast.Name)]
+        for name, source in sources().items():
+            used = {word.id for word in nodes(source, ast.Name)}
+            for node in nodes(source, ast.ImportFrom):
+                self.assertEqual([one.name for one in node.names if one.name not in used], [], name)
+            own = [one for one in bound_in(ast.parse(source)) if one not in public and name != "errors.py"]
+            self.assertEqual([one for one in own if one not in everywhere], [], name)
+
+    def test_names(self):
+        for name, source in sources().items():
+            tree = ast.parse(source)
+            taken = {node.name for node in nodes(source, ast.ClassDef)}
+            taken |= {one.name for node in nodes(source, ast.ImportFrom) for one in node.names}
+            for node in nodes(source, ast.ClassDef):
+                self.assertTrue(node.name[0].isalpha(), (name, node.name))
+            inner = [node.arg for node in nodes(source, ast.arg)]
+            inner += [node.id for node in nodes(source, ast.Name) if isinstance(node.ctx, ast.Store)]
+            for word in inner:
+                self.assertFalse(word in taken or (word != "_" and hasattr(builtins, word)), (name, word))
+            for word in bound_in(tree):
+                self.assertFalse(hasattr(builtins, word), (name, word))
+            for node in nodes(source, ast.Name):
+                self.assertFalse(node.id == "_" and isinstance(node.ctx, ast.Load), name)
+            for node in nodes(source, ast.FunctionDef):
+                self.assertFalse(node.name in LISTED, (name, node.name))
+
+    def test_calls_and_statements(self):
+        for name, source in sources().items():
+            self.assertEqual(nodes(source, ast.GeneratorExp, ast.Lambda, ast.Set, ast.SetComp, ast.Yield, ast.Assert, ast.Delete, ast.Nonlocal), [], name)
+            for node in nodes(source, ast.Call):
+                if isinstance(node.func, ast.Name) and node.func.id in ("sorted", "min", "max"):
+                    self.assertEqual([(one.arg, one.value.id) for one in node.keywords if one.value.id in ("int", "str", "len")][:1] != [], True, name)
+                if isinstance(node.func, ast.Attribute):
+                    self.assertNotIn(node.func.attr, ("sort", "add", "discard", "format"), name)
+            for node in nodes(source, ast.Compare):
+                for sign, right in zip(node.ops, node.comparators):
+                    if isinstance(sign, (ast.Is, ast.IsNot)):
+                        self.assertTrue(isinstance(right, ast.Constant) and right.value in (None, True, False), name)
+            for node in nodes(source, ast.AugAssign):
+                self.assertTrue(isinstance(node.value, ast.Constant) and type(node.value.value) is int, name)
+            for node in nodes(source, ast.FunctionDef):
+                for default in node.args.defaults + [one for one in node.args.kw_defaults if one is not None]:
+                    self.assertIsInstance(default, ast.Constant, name)
+
+    def test_properties_share_no_names(self):
+        methods, properties, stored = set(), set(), set()
+        for source in sources().values():
+            for kind in nodes(source, ast.ClassDef):
+                for node in kind.body:
+                    if isinstance(node, ast.FunctionDef):
+                        is_property = any(isinstance(one, ast.Name) and one.id == "property" for one in node.decorator_list)
+                        (properties if is_property else methods).add(node.name)
+            stored |= {node.attr for node in nodes(source, ast.Attribute) if isinstance(node.ctx, ast.Store)}
+        self.assertEqual(properties & (methods | stored), set())
+        self.assertEqual(methods & stored, set())
+        self.assertEqual(stored & {"items", "keys", "values", "pop", "update", "append", "clear", "extend", "insert", "remove", "reverse", "sort",
+                                   "args", "encode", "decode", "format"}, set())
 
 
 if __name__ == "__main__":

@@ -1,16 +1,21 @@
 """Point 3: moved, stretched and turned-over charts, and fewer marks."""
 
+import functools
 import itertools
 import unittest
 from fractions import Fraction
 
 from seenabout.cells import cells, next_to, pieces, place_of, shows_place_of
+from seenabout.comparing import apart
 from seenabout.lands import Land
+from seenabout.laps import Lap
 from seenabout.logs import began, coming, known, now
+from seenabout.looks import fewest_marks, mixed, shows_mixed
+from seenabout.scripts import Script, ends, failing, leads, shows_leads, walked
 from seenabout.seeing import rounds, seen_from, shows_seen_from, where
 from seenabout.sights import about, sides
 from seenabout.ways import crossed, fewest, seen_on, shows_fewest
-from tests import plain
+from tests import plain, walks
 from tests.test_ways import ways_of
 
 CHARTS = [plain.TRIANGLE, plain.SLANT, plain.SQUARE, plain.INNER, plain.HOUSE, plain.SEVEN]
@@ -41,6 +46,25 @@ def other_way_about(seen):
 
 def some_places(marks):
     return plain.places_everywhere(marks)[::7]
+
+
+def some_scripts(marks, many):
+    """Scripts that are drawn as they come, some of them done from many places."""
+    for number, told in enumerate(walks.seeds(many)):
+        make = walks.drawn_script if number % 4 == 0 else walks.led_script
+        yield Script(walks.text_of(make(marks, [1, 2, 3, 5, 12][number % 5], told)))
+
+
+@functools.lru_cache(maxsize=None)
+def some_laps(items):
+    """Scripts that are laps, most of them done from some share; three marks have none."""
+    marks = dict(items)
+    rows = [walks.drawn_lap(marks, many, told) for told, many in zip(walks.seeds(6), (2, 3, 4, 6, 8, 12)) if len(marks) > 3]
+    return [Script(walks.text_of(steps)) for steps in rows if steps is not None]
+
+
+def moved_points(points, kind):
+    return tuple(plain.point(kind(*plain.place(point))) for point in points)
 
 
 class MovedAndStretched(unittest.TestCase):
@@ -100,6 +124,43 @@ class MovedAndStretched(unittest.TestCase):
                     self.assertEqual(fewest(other, *there)[0], number)
                     self.assertIs(shows_fewest(other, *there, (number, moved, levels)), True)
 
+    def test_scripts(self):
+        for marks, kind, chart, other in self.all_kinds():
+            for number, script in enumerate(some_scripts(marks, 8)):
+                corners = LANDS[number % len(LANDS)]
+                land, moved = Land(corners), Land(tuple(kind(*corner) for corner in corners))
+                self.assertEqual(ends(chart, script, land), ends(other, script, moved))
+                self.assertEqual(failing(chart, script, land), failing(other, script, moved))
+                answer = leads(chart, script, land)
+                if answer[0] == "not":
+                    self.assertIs(shows_leads(other, script, moved, ("not", *moved_points(answer[1:], kind))), True)
+                else:
+                    self.assertEqual(leads(other, script, moved), answer)
+                for corner in corners:
+                    word, line, points = walked(chart, script, plain.point(corner))
+                    self.assertEqual(walked(other, script, plain.point(kind(*corner))), (word, line, moved_points(points, kind)))
+
+    def test_laps(self):
+        for marks, kind, chart, other in self.all_kinds():
+            for script in some_laps(tuple(marks.items())):
+                lap, moved = Lap(chart, script), Lap(other, script)
+                self.assertEqual((lap.table, lap.turns, lap.fixed, lap.pair), (moved.table, moved.turns, moved.fixed, moved.pair))
+                self.assertEqual((lap.starts(), lap.starts(5)), (moved.starts(), moved.starts(5)))
+                self.assertEqual([lap.led(share, 3) for share in (-2, 0, 1, 4)], [moved.led(share, 3) for share in (-2, 0, 1, 4)])
+
+    def test_looks(self):
+        for marks, kind, chart, other in self.all_kinds():
+            self.assertEqual(apart(chart, other), ((), ()))
+            for corners in [None, *LANDS]:
+                land, moved = plain.land_of(corners), plain.land_of(corners and tuple(kind(*corner) for corner in corners))
+                ask = tuple(marks)[:3:2]
+                told = mixed(chart, ask, land=land)
+                self.assertEqual(mixed(other, ask, land=moved) is None, told is None)
+                if told is not None:
+                    self.assertIs(shows_mixed(other, ask, moved_points(told, kind), land=moved), True)
+                first, second = fewest_marks(chart, ask, land=land), fewest_marks(other, ask, land=moved)
+                self.assertEqual((first[:-1], [reason[0] for reason in first[-1]]), (second[:-1], [reason[0] for reason in second[-1]]))
+
     def test_lands(self):
         for corners, kind in itertools.product(LANDS, KINDS.values()):
             land, moved = Land(corners), Land(tuple(kind(*corner) for corner in corners))
@@ -151,7 +212,63 @@ class TurnedOver(unittest.TestCase):
                     self.assertEqual(fewest(other, *there)[0], fewest(chart, *here)[0])
 
 
+    def test_scripts(self):
+        # Who stands to the left of a line stands to the right of it then: a skip is asked about the line turned about.
+        for marks in CHARTS:
+            chart, other = plain.chart_of(marks), plain.chart_of(turned_over(marks))
+            for number, script in enumerate(some_scripts(marks, 12)):
+                about_turn = [(*step[:3], step[4], step[3]) if step[0] == "skip" else step for step in script.steps]
+                over, corners = Script(walks.text_of(about_turn)), LANDS[number % len(LANDS)]
+                land, land_over = Land(corners), Land(tuple((y, x) for x, y in corners[::-1]))
+                self.assertEqual(ends(chart, script, land), ends(other, over, land_over))
+                self.assertEqual(failing(chart, script, land), failing(other, over, land_over))
+                word, line, points = walked(chart, script, plain.point(corners[0]))
+                self.assertEqual(walked(other, over, plain.point(corners[0][::-1])), (word, line, moved_points(points, lambda x, y: (y, x))))
+
+    def test_laps(self):
+        for marks in CHARTS:
+            chart, other = plain.chart_of(marks), plain.chart_of(turned_over(marks))
+            for script in some_laps(tuple(marks.items())):
+                lap, over = Lap(chart, script), Lap(other, script)
+                self.assertEqual((lap.table, lap.turns, lap.starts(3), lap.led(2, 2)), (over.table, over.turns, over.starts(3), over.led(2, 2)))
+
+    def test_looks(self):
+        for marks in CHARTS:
+            chart, other = plain.chart_of(marks), plain.chart_of(turned_over(marks))
+            for corners in [None, *LANDS]:
+                land, over = plain.land_of(corners), plain.land_of(corners and tuple((y, x) for x, y in corners[::-1]))
+                ask = tuple(marks)[1:3]
+                first, second = fewest_marks(chart, ask, land=land), fewest_marks(other, ask, land=over)
+                self.assertEqual((first[:-1], len(first[-1])), (second[:-1], len(second[-1])))
+
+
+class AllStarts(unittest.TestCase):
+
+    def test_what_is_told_of_directions_holds_for_each_start(self):
+        for told, marks in zip(walks.seeds(len(CHARTS)), CHARTS):
+            chart = plain.chart_of(marks)
+            for number, script in enumerate(some_scripts(marks, 16)):
+                corners = LANDS[number % len(LANDS)]
+                lost = failing(chart, script, Land(corners))
+                stretches = ends(chart, script, Land(corners))
+                for at in walks.starts_in(marks, corners, told, 6):
+                    word, line, points = walked(chart, script, plain.point(at))
+                    if word == "done":
+                        pair, share = walks.end_of(marks, script.steps, at)
+                        self.assertTrue(any(stretch[:2] == pair and walks.is_within(stretch[2:], share) for stretch in stretches))
+                    else:
+                        self.assertIn((line, word), lost)
+
+
 class FewerMarks(unittest.TestCase):
+
+    def test_what_few_marks_settle_more_marks_do_too(self):
+        for marks in [plain.SQUARE, plain.INNER, plain.HOUSE]:
+            chart, names = plain.chart_of(marks), tuple(marks)
+            for ask, corners in itertools.product(itertools.combinations(names, 2), LANDS):
+                for among in itertools.combinations(names, 3):
+                    if mixed(chart, ask, land=Land(corners), among=among) is None:
+                        self.assertIsNone(mixed(chart, ask, land=Land(corners)))
 
     def test_rounds_of_more_marks_tell_those_of_fewer(self):
         for marks in [plain.INNER, plain.HOUSE, plain.SEVEN]:

@@ -104,10 +104,8 @@ class Chart:
 
     def line(self, one, other):
         """The Line from the mark one to the mark other."""
-        begin, end = self[one], self[other]
-        if one == other:
-            raise NoMark(other)
-        return Line(begin, end)
+        check_two(self, one, other)
+        return Line(self[one], self[other])
 
     def without(self, name):
         """The Chart without the line of this mark."""
@@ -139,6 +137,14 @@ class Chart:
 
     def __eq__(self, other):
         return isinstance(other, Chart) and self.text == other.text
+
+
+def check_two(chart, one, other):
+    """Refuse what are no two unlike marks."""
+    if one not in chart:
+        raise NoMark(one)
+    if other not in chart or one == other:
+        raise NoMark(other)
 
 
 def pair_number(chart, one, other):

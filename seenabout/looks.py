@@ -21,36 +21,33 @@ def _check_ask(chart, ask):
         raise BadAsk(ask)
 
 
-def _views(chart, number, land, chosen):
-    """All (round, side, spot): the rounds of the chosen marks that are seen in the land, with each side of a pair."""
+def views(chart, land, chosen):
+    """All (round, cell, spot): for each cell with places in the land the round of the chosen marks, and a place."""
     plane = chart.plane
-    found = {}
-    for at, spot in plane.spots_within(borders_of(land)).items():
-        cell = plane.cells[at]
-        found[round_from(chart, cell, chosen), cell[number]] = spot
-    return [(seen, side, spot) for (seen, side), spot in found.items()]
+    inside = plane.spots_within(borders_of(land))
+    return [(round_from(chart, plane.cells[at], chosen), plane.cells[at], spot) for at, spot in inside.items()]
 
 
-def _two_places(views):
-    """Two Points with one round and unlike sides, or None."""
+def two_places(some, number):
+    """Of some views two Points with the same round and unlike sides of a pair, or None."""
     ahead = {}
-    for seen, side, spot in views:
-        other, its_spot = ahead.setdefault(seen, (side, spot))
-        if other != side:
+    for seen, cell, spot in some:
+        side, its_spot = ahead.setdefault(seen, (cell[number], spot))
+        if side != cell[number]:
             return point_of(its_spot), point_of(spot)
     return None
 
 
-def unsettled(chart, ask, land, chosen):
+def _unsettled(chart, ask, land, chosen):
     """Two places of the land with unlike answers and the same round of the chosen marks, or None."""
-    return _two_places(_views(chart, pair_number(chart, ask[0], ask[1]), land, chosen))
+    return two_places(views(chart, land, chosen), pair_number(chart, ask[0], ask[1]))
 
 
 def mixed(chart, ask, *, land=None, among=None):
     """Two places of the land with unlike answers and the same round, or None if the rounds settle the ask."""
     _check_ask(chart, ask)
     check_land(land)
-    return unsettled(chart, ask, land, chosen_marks(chart, among))
+    return _unsettled(chart, ask, land, chosen_marks(chart, among))
 
 
 def _is_place(chart, land, value):
@@ -64,7 +61,7 @@ def shows_mixed(chart, ask, value, *, land=None, among=None):
     check_land(land)
     chosen = chosen_marks(chart, among)
     if value is None:
-        return unsettled(chart, ask, land, chosen) is None
+        return _unsettled(chart, ask, land, chosen) is None
     if not isinstance(value, tuple) or len(value) != 2 or not all([_is_place(chart, land, one) for one in value]):
         return False
     number = pair_number(chart, ask[0], ask[1])
@@ -84,15 +81,17 @@ def fewest_marks(chart, ask, *, land=None):
     """The first choice of marks whose rounds settle an ask, with two places for each choice ahead of it."""
     _check_ask(chart, ask)
     check_land(land)
-    views = _views(chart, pair_number(chart, ask[0], ask[1]), land, chosen_marks(chart, None))
+    number = pair_number(chart, ask[0], ask[1])
+    unlike = {(view[0], view[1][number]): view for view in views(chart, land, chosen_marks(chart, None))}
+    some = list(unlike.values())
     # What the rounds of all marks leave open, those of fewer marks do, too.
-    always = _two_places(views)
+    always = two_places(some, number)
     reasons = []
     for many in range(3, len(chart) + 1):
         for names in _choices(chart.names, many):
             found = always
             if found is None:
-                found = _two_places([(left_of(seen, names), side, spot) for seen, side, spot in views])
+                found = two_places([(left_of(seen, names), cell, spot) for seen, cell, spot in some], number)
             if found is None:
                 return "marks", names, tuple(reasons)
             reasons.append((names, *found))

@@ -10,6 +10,15 @@ def check_point(value):
         raise BadPoint(value)
 
 
+def read_point(value):
+    """The Point of which any value is the text, or None if it is of none."""
+    words = value.split(" ") if isinstance(value, str) else []
+    read = [read_ratio(word) for word in words]
+    if len(read) != 2 or read[0] is None or read[1] is None:
+        return None
+    return Point(read[0], read[1])
+
+
 class Point:
     """The place x, y; the coordinates are told as Ratios."""
 
@@ -27,11 +36,10 @@ class Point:
     @staticmethod
     def of(text):
         """The Point of which this is the text."""
-        words = text.split(" ") if isinstance(text, str) else []
-        read = [read_ratio(word) for word in words]
-        if len(read) != 2 or read[0] is None or read[1] is None:
+        point = read_point(text)
+        if point is None:
             raise BadText(text)
-        return Point(read[0], read[1])
+        return point
 
     def towards(self, other, share):
         """The Point that lies this share of the way from here to other."""

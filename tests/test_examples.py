@@ -77,6 +77,21 @@ False
 >>> [mixed(chart, ('a', 'b'), land=patch), fewest_marks(chart, ('a', 'b'))[0], len(apart(chart, Chart('mark a 0 0\\nmark b 0 4\\nmark c 4 0'))[0])]
 [None, 'none', 0]
 """),
+    ("section 16", 3, """
+>>> from seenabout.choosing import cheapest
+>>> wide = Land(((5, -3), (8, -3), (8, 1), (5, 1)))
+>>> cheapest(chart, (('mark d 12 -1', 2), ('mark e 9 9', 1)), (('a', 'b'),), land=wide)[:3]
+('choice', 1, (('mark e 9 9', 1),))
+"""),
+    ("section 18", 5, """
+>>> from seenabout.desk import Desk
+>>> from seenabout.journals import journal
+>>> desk = Desk(chart.text + '\\nat 1 1\\nfrom c between a b')
+>>> [desk.say(line) for line in ('place', 'round', 'side a b', 'known a b', 'go -1 -1/2', 'round', 'known b a', 'undo')]
+['4/3 0', 'a b c', 'on', 'open', 'done', 'a c b', 'open', 'done']
+>>> journal(desk.walker).split('\\n')[3:]
+['at 1 1', 'from c between a b']
+"""),
 ]
 
 

@@ -8,6 +8,7 @@ import pathlib
 import unittest
 
 from seenabout.charts import Chart
+from seenabout.points import Point
 from seenabout.scripts import Script
 
 PACKAGE = pathlib.Path(__file__).resolve().parent.parent / "seenabout"
@@ -19,6 +20,9 @@ LIBRARY = {"math": ("gcd", "lcm", "isqrt", "comb", "perm", "factorial"),
 LISTED = ("len", "range", "enumerate", "zip", "min", "max", "sum", "abs", "sorted", "reversed", "int", "str", "bool", "bytes", "list", "tuple",
           "dict", "set", "frozenset", "isinstance", "ord", "chr", "repr", "any", "all", "divmod", "open", "input", "register", "mro", "elements", "law")
 
+ERRORS = ("BadRatio BadText BadPoint BadNumber Off BadChart NoMark BadLine Needed AtMark BadNames BadSides NoCell BadCells BadLand BadRound OverMark OnLine BadLog "
+          "BadScript NoLap BadAsk Unlike BadOffers BadAsks Lost NothingToUndo NothingToRedo NoTrial BadJournal BadSay").split()
+
 # For each class: the parameters of its creation, and of its methods.
 CLASSES = {
     ("ratios", "Ratio"): ("number, under=1", {"of": "text", "divided": "self, other"}),
@@ -28,9 +32,13 @@ CLASSES = {
     ("lands", "Land"): ("corners", {}),
     ("scripts", "Script"): ("text", {}),
     ("laps", "Lap"): ("chart, script", {"led": "self, share, many=1", "starts": "self, many=1"}),
+    ("walkers", "Walker"): ("chart, point", {"go": "self, point", "step": "self, line", "undo": "self", "redo": "self", "trial": "self", "keep": "self",
+                                             "tried": "self, look, *, keep=False", "copy": "self"}),
+    ("desk", "Desk"): ("text", {"say": "self, line"}),
 }
 SIGNS = {("charts", "Chart"): ("getitem", "len", "contains", "add", "eq"), ("lands", "Land"): ("contains", "eq"),
-         ("points", "Point"): ("add", "sub", "eq"), ("points", "Line"): ("and", "eq"), ("scripts", "Script"): ("len", "eq")}
+         ("points", "Point"): ("add", "sub", "eq"), ("points", "Line"): ("and", "eq"), ("scripts", "Script"): ("len", "eq"),
+         ("walkers", "Walker"): ("len", "contains", "eq"), ("ratios", "Ratio"): ("add", "radd", "sub", "rsub", "mul", "rmul", "neg", "abs", "lt", "le", "gt", "ge", "eq", "repr")}
 FUNCTIONS = {
     "sights": {"sides": "chart, point", "about": "chart, point, *, among=None"},
     "cells": {"cells": "chart", "place_of": "chart, sides", "shows_place_of": "chart, sides, value", "next_to": "chart, cell",
@@ -44,6 +52,8 @@ FUNCTIONS = {
     "looks": {"mixed": "chart, ask, *, land=None, among=None", "shows_mixed": "chart, ask, value, *, land=None, among=None",
               "fewest_marks": "chart, ask, *, land=None"},
     "comparing": {"apart": "one, other, *, land=None"},
+    "choosing": {"cheapest": "chart, offers, asks, *, land=None"},
+    "journals": {"journal": "walker", "read_journal": "text"},
     "logs": {"began": "chart, log", "now": "chart, log", "coming": "chart, log", "known": "chart, log"},
 }
 TEXT = "mark a 0 0\nmark b 4 0\nmark c 0 4"
@@ -55,6 +65,9 @@ ATTRIBUTES = {
     ("lands", "Land"): ((((0, 0), (4, 0), (0, 4)),), ("corners", "edges")),
     ("scripts", "Script"): ((DIRECTIONS,), ("text", "steps")),
     ("laps", "Lap"): ((Chart(TEXT + "\nmark d 6 6\nmark e 1 -3"), Script(DIRECTIONS)), ("pair", "table", "turns", "fixed")),
+    ("points", "Line"): ((Point(0, 0), Point(1, 2)), ("one", "other")),
+    ("walkers", "Walker"): ((Chart(TEXT), Point(1, 1)), ("chart", "first", "point", "done", "log")),
+    ("desk", "Desk"): ((TEXT + "\nat 1 1",), ("walker",)),
 }
 
 
@@ -103,6 +116,19 @@ class Interface(unittest.TestCase):
                 self.assertTrue(inspect.isfunction(function))
                 self.assertEqual((function.__name__, function.__module__), (name, "seenabout." + module))
                 self.assertEqual(parameters(function), its_parameters)
+
+    def test_errors_stand_below_the_one(self):
+        above = found("errors", "AboutError")
+        self.assertEqual(above.__bases__, (ValueError,))
+        for name in ERRORS:
+            self.assertEqual((found("errors", name).__bases__, found("errors", name).__module__), ((above,), "seenabout.errors"))
+
+    def test_each_sign_of_the_document_is_taken(self):
+        # Nothing is taken over from a base class: there are none but for errors.
+        for name, source in sources().items():
+            for node in nodes(source, ast.ClassDef):
+                if name != "errors.py":
+                    self.assertEqual(node.bases, [], node.name)
 
     def test_what_is_to_be_static_is_static(self):
         for module, name in [("ratios", "Ratio"), ("points", "Point")]:

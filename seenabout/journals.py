@@ -3,12 +3,12 @@
 from seenabout.charts import Chart
 from seenabout.errors import AboutError, BadChart, BadJournal
 from seenabout.points import read_point
-from seenabout.walkers import Walker
+from seenabout.walkers import Walker, lines_of
 
 
 def journal(walker):
     """The lines of the chart, of the first place, and of all deeds that stand."""
-    return "\n".join([walker.chart.text] + walker.written_lines())
+    return "\n".join([walker.chart.text] + lines_of(walker))
 
 
 def _point_behind(word, line):

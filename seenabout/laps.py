@@ -3,7 +3,7 @@
 from math import gcd
 
 from seenabout.errors import BadNumber, NoLap
-from seenabout.lands import Stretch, behind, reduced, united
+from seenabout.lands import Stretch, behind, reduced, split, united
 from seenabout.ratios import Ratio, as_ratio, is_integer, is_number
 from seenabout.scripts import STILL, across, check_marks, fates, pair_of
 
@@ -11,11 +11,9 @@ _MOST = 30
 
 
 def _fits(step, ahead):
-    """Whether a step can stand in a lap behind the one ahead, which perhaps is a skip."""
+    """Whether a step can stand in a lap behind the one ahead, which is no skip."""
     if step[0] == "skip" or step[1] in step[3:]:
         return False
-    if ahead[0] == "skip":
-        return True
     is_same_pair = step[3] in ahead[3:] and step[4] in ahead[3:]
     return not is_same_pair and step[1] not in ahead[3:]
 
@@ -23,7 +21,7 @@ def _fits(step, ahead):
 def _check_lap(steps):
     """Refuse steps that are no lap."""
     for number, step in enumerate(steps):
-        # Ahead of the first one counts the last one.
+        # Ahead of the first one counts the last one, which no skip ever is.
         if not _fits(step, steps[number - 1]):
             raise NoLap(number + 1)
 
@@ -35,9 +33,9 @@ def _check_many(many):
 
 
 def _signed(numbers):
-    """The numbers, the first of them that is not 0 being above 0."""
-    below = [number < 0 for number in numbers if number != 0]
-    return tuple([-number for number in numbers]) if below and below[0] else tuple(numbers)
+    """The numbers, not all of them 0, with such signs that the first one but 0 is above 0."""
+    first = [number for number in numbers if number != 0][0]
+    return tuple([-number for number in numbers]) if first < 0 else tuple(numbers)
 
 
 def _table(chart, steps, number):
@@ -52,9 +50,10 @@ def _table(chart, steps, number):
 def _turns(table):
     """The least of 1, 2, 3, 4, 6 so many of which lead each share to itself, or None."""
     p, q, r, s = STILL
+    # With fractions five never do if one does not.
     for many in range(1, 7):
         p, q, r, s = behind((p, q, r, s), table)
-        if q == 0 and r == 0 and p == s and many != 5:
+        if q == 0 and r == 0 and p == s:
             return many
     return None
 
@@ -69,11 +68,12 @@ def _fixed(table):
 def _ahead_of(table, part):
     """The shares that a table leads to a part, among those for which r u + s is above 0."""
     p, q, r, s = table
-    found = Stretch(None, None)
+    conditions = []
     for end, sign in ((part.low, 1), (part.high, -1)):
-        if found is not None and end is not None:
+        if end is not None:
             number, under = end[0].number * sign, end[0].under * sign
-            found = found.cut((p * under - r * number, q * under - s * number), not end[1])
+            conditions.append(((p * under - r * number, q * under - s * number), not end[1]))
+    found, _ = split(Stretch(None, None), conditions)
     return found
 
 

@@ -13,7 +13,7 @@ from seenabout.charts import is_name, pair_number, spots_of_pair
 from seenabout.errors import BadScript, NoMark
 from seenabout.lands import Region, Stretch, check_no_plane, on_and_off, reduced, share_of, split, united
 from seenabout.plane import height_at, line_through, minus, opposite, point_of, spot_of
-from seenabout.points import Point, check_point
+from seenabout.points import check_point
 from seenabout.ratios import Ratio
 
 _MOST = 12
@@ -213,8 +213,8 @@ def _skipped(chart, step, here, part):
     _, _, _, one, other = step
     x, y, _ = spot_of(chart[one])
     to_x, to_y, _ = spot_of(chart[other])
-    left, (others,) = split(part, [(_along(chart, line_through(x, y, to_x, to_y), here), True)])
-    return left, others
+    left, others = split(part, [(_along(chart, line_through(x, y, to_x, to_y), here), True)])
+    return left, others[0]
 
 
 def fates(chart, steps, begin, here, part):
@@ -391,6 +391,4 @@ def shows_leads(chart, script, land, value):
     word, evidence = value
     if word == "sure":
         return told[0] == "sure" and _are_same(told[1], evidence)
-    if word != "not" or not isinstance(evidence, Point) or evidence not in land:
-        return False
-    return walked(chart, script, evidence)[0] != "done"
+    return word == "not" and evidence in land and walked(chart, script, evidence)[0] != "done"

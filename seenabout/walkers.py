@@ -1,9 +1,10 @@
 """Walkers: somebody who goes from place to place, and writes down what is seen."""
 
-from seenabout.errors import BadLine, Lost, NoTrial, NothingToRedo, NothingToUndo, OverMark
+from seenabout.errors import BadLine, BadPoint, Lost, NoTrial, NothingToRedo, NothingToUndo
+from seenabout.points import Point
 from seenabout.scripts import check_marks, read_step, step_end
-from seenabout.sights import about, check_place
-from seenabout.ways import check_way, mark_over, seen_on
+from seenabout.sights import about
+from seenabout.ways import seen_on
 
 
 class Trial:
@@ -30,6 +31,11 @@ class Trial:
         self.walker.innermost = self.around
 
 
+def lines_of(walker):
+    """What the journal of a walker has behind the chart, line by line."""
+    return [f"at {walker.first.text}"] + [line for line, _, _ in walker.state[0]]
+
+
 class Walker:
     """Somebody who stands at this place of a chart.
 
@@ -40,10 +46,10 @@ class Walker:
     """
 
     def __init__(self, chart, point):
-        check_place(chart, point)
+        begun = about(chart, point)
         self.chart = chart
         self.first = point
-        self.begun = about(chart, point)
+        self.begun = begun
         self.state = ((), ())
         self.innermost = None
 
@@ -63,19 +69,19 @@ class Walker:
         """The rounds seen since the beginning, each unlike the one ahead."""
         return (self.begun, *[told for _, _, seen in self.state[0] for told in seen])
 
-    def written_lines(self):
-        """What the journal of the walker has behind the chart, line by line."""
-        return [f"at {self.first.text}"] + [line for line, _, _ in self.state[0]]
-
     def _do(self, line, goal):
-        """Go straight to a place, by a deed with this line; the rounds that come to the log by this."""
+        """Go straight to a place, by a deed with this line; the rounds that come to the log by this.
+
+        It is refused at marks, and over marks.
+        """
         seen = () if goal == self.point else seen_on(self.chart, self.point, goal)[1:]
         self.state = (self.state[0] + ((line, goal, seen),), ())
         return seen
 
     def go(self, point):
         """Go straight to another place, and tell the rounds that come to the log by this."""
-        check_way(self.chart, self.point, point)
+        if not isinstance(point, Point) or point == self.point:
+            raise BadPoint(point)
         return self._do(f"go {point.text}", point)
 
     def step(self, line):
@@ -87,10 +93,6 @@ class Walker:
         word, goal = step_end(self.chart, step, self.point)
         if word != "done":
             raise Lost(word)
-        check_place(self.chart, goal)
-        name = None if goal == self.point else mark_over(self.chart, self.point, goal)
-        if name is not None:
-            raise OverMark(name)
         return self._do(line, goal)
 
     def undo(self):
@@ -139,4 +141,4 @@ class Walker:
 
     def __eq__(self, other):
         return (isinstance(other, Walker) and self.chart == other.chart
-                and self.written_lines() == other.written_lines())
+                and lines_of(self) == lines_of(other))

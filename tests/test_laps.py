@@ -32,6 +32,12 @@ TURNS = [
      (25, -14, 28, -17), None, (2, -3, 1)),
     ({"a": (1, 1), "b": (1, 0), "c": (0, 1), "d": (3, 0), "e": (0, 2)}, "towards c between e b\ntowards d between e a\ntowards c until b a",
      (1, 1, 0, 4), None, (0, 3, -1)),
+    # One of the numbers is 0, or two of them are alike: none of these leads each share to itself.
+    ({"a": (0, 1), "b": (0, 0), "c": (2, 0), "d": (2, 2), "e": (1, 2)}, "from d until a b\nfrom e until b c", (1, 0, 0, 2), None, (0, 1, 0)),
+    ({"a": (0, 1), "b": (3, 2), "c": (3, 3), "d": (0, 0), "e": (2, 1)}, "from b until a e\ntowards d until a b\nfrom c until d a", (1, 0, -1, 1), None, (1, 0, 0)),
+    ({"a": (0, 2), "b": (1, 2), "c": (2, 1), "d": (1, 0), "e": (0, 1), "f": (2, 0)}, "from b between e a\nfrom d until f c", (1, 4, 0, 1), None, (0, 0, 1)),
+    # No share at all is led to one of the stretches from which a lap is done.
+    ({"a": (0, 0), "b": (4, 2), "c": (1, 3), "d": (3, 0), "e": (0, 4)}, "from e until d b\nfrom a until b c", (3, 0, 21, -25), None, (3, -4, 0)),
 ]
 
 
@@ -128,6 +134,18 @@ class Created(Case):
         self.no_lap(1, FIVE, "towards b between a c\ntowards e between b a")
         self.no_lap(3, FIVE, "towards d between a c\ntowards e between a b\ntowards b between c e")
         Lap(FIVE, Script("towards e between a c\ntowards d between a b\ntowards c between d b\ntowards a between e c\ntowards a between b d"))
+
+    def test_marks_that_are_called_like_words(self):
+        marks = {"until": (0, 0), "between": (4, 0), "left": (0, 4), "from": (6, 6), "skip": (1, -3)}
+        chart = plain.chart_of(marks)
+        for text in ["towards from until until left\ntowards skip until until between", "towards until until left from\ntowards until between left skip",
+                     "from between between left until\nfrom between between from until", "towards skip between until left\ntowards skip until between until"]:
+            words = [line.split(" ") for line in text.split("\n")]
+            wrong = [number + 1 for number in range(2) if words[number][1] in words[0][3:] + words[1][3:]]
+            if wrong:
+                self.no_lap(wrong[0], chart, text)
+            else:
+                Lap(chart, Script(text))
 
     def test_all_texts_of_two_lines(self):
         chart, marks = plain.chart_of(plain.SQUARE), plain.SQUARE

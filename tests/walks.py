@@ -211,5 +211,26 @@ class Backwards:
         return None
 
 
+def starts_of_failures(marks, steps, corners, line):
+    """Starts from which walks perhaps fail at this line: those that come to special places ahead of it."""
+    ahead = [step if step[0] != "skip" else ("skip", min(step[1], line - 2 - number), *step[2:]) for number, step in enumerate(steps[:line - 1])]
+    while ahead and ahead[-1][0] == "skip":
+        ahead.pop()
+    if not ahead:
+        return
+    if any(step[0] == "skip" and step[1] > len(ahead) - 1 - number for number, step in enumerate(ahead)):
+        ahead = [step if step[0] != "skip" else ("skip", min(step[1], len(ahead) - 1 - number), *step[2:]) for number, step in enumerate(ahead)]
+    back = Backwards(marks, tuple(ahead), corners)
+    for one, other, *stretch in ends(plain.chart_of(marks), Script(text_of(ahead)), Land(corners)):
+        way = marks[one], marks[other]
+        special = [plain.on_way(*way, at) for at in [*marks.values(), *plain.crossings([way, *plain.lines_of(marks)])] if plain.height(*way, at) == 0]
+        special = sorted(set(special))
+        special += [(low + high) / 2 for low, high in zip(special, special[1:])] + [special[0] - 1, special[-1] + 1]
+        for share in shares_of(stretch) + [share for share in special if is_within(stretch, share)]:
+            start = back.start((one, other), share)
+            if start is not None:
+                yield start
+
+
 def seeds(many):
     return [random.Random(number) for number in range(many)]

@@ -80,9 +80,9 @@ def _ahead_of(table, part):
 class Lap:
     """A script in a chart that leads from the line of its last pair back to it.
 
-    Besides what callers are told: begin, the number of that pair with the table
-    that leads nowhere; once, the table of one lap in which r u + s is above 0
-    wherever it is done; parts, the stretches from which it is.
+    Besides what callers are told: number, that of this pair; once, the table of
+    one lap in which r u + s is above 0 wherever it is done; parts, the stretches
+    from which it is.
     """
 
     def __init__(self, chart, script):

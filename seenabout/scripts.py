@@ -20,8 +20,9 @@ _MOST = 12
 STILL = (1, 0, 0, 1)
 
 
-def _are_names(mark, one, other):
-    return is_name(mark) and is_name(one) and is_name(other) and one != other
+def _are_two(one, other):
+    """Whether two words are unlike names."""
+    return is_name(one) and is_name(other) and one != other
 
 
 def read_step(line):
@@ -29,7 +30,7 @@ def read_step(line):
     words = line.split(" ") if isinstance(line, str) else []
     if len(words) != 5 or words[0] not in ("towards", "from") or words[2] not in ("until", "between"):
         return None
-    return tuple(words) if _are_names(words[1], words[3], words[4]) else None
+    return tuple(words) if is_name(words[1]) and _are_two(words[3], words[4]) else None
 
 
 def _read_many(word, most):
@@ -42,7 +43,7 @@ def _read_many(word, most):
 def _read_skip(line, most):
     """The ("skip", integer, "left", name, name) of a line that passes by at most so many, or None."""
     words = line.split(" ")
-    if len(words) != 5 or words[0] != "skip" or words[2] != "left" or not _are_names(words[3], words[3], words[4]):
+    if len(words) != 5 or words[0] != "skip" or words[2] != "left" or not _are_two(words[3], words[4]):
         return None
     many = _read_many(words[1], most)
     return None if many is None else ("skip", many, "left", words[3], words[4])
